@@ -4,7 +4,6 @@ import (
 	"hash/crc32"
 	"math/rand"
 	"strings"
-	"sync"
 	"testing"
 
 	"beguinage/crc"
@@ -43,21 +42,18 @@ func sums(t *testing.T, s string, want uint32) {
 	if got := crc.Of(s); got != want {
 		t.Errorf("Of %.12q (%d bytes): %#08x, want %#08x", s, len(s), got, want)
 	}
+	if got := crc.ByTable(0, s); got != want {
+		t.Errorf("ByTable of %.12q (%d bytes): %#08x, want %#08x", s, len(s), got, want)
+	}
 }
 
-// It is the first test of the file, so that the calls meet where nothing was
-// asked before.
-func TestCallsAtOneTimeAnswerAlike(t *testing.T) {
-	var wait sync.WaitGroup
-	var got [64]uint32
-	for i := range got {
-		wait.Go(func() { got[i] = crc.Of("123456789") })
+func goesOn(t *testing.T, sum uint32, s string, want uint32) {
+	t.Helper()
+	if got := crc.More(sum, s); got != want {
+		t.Errorf("More(%#08x, %.12q): %#08x, want %#08x", sum, s, got, want)
 	}
-	wait.Wait()
-	for i, sum := range got {
-		if sum != 0xCBF43926 {
-			t.Errorf("call %d: %#08x", i, sum)
-		}
+	if got := crc.ByTable(sum, s); got != want {
+		t.Errorf("ByTable(%#08x, %.12q): %#08x, want %#08x", sum, s, got, want)
 	}
 }
 
@@ -136,9 +132,7 @@ func TestMoreGoesOnAtEachCut(t *testing.T) {
 	for _, s := range []string{"", "a", "123456789", text(r, 256), text(r, 1000)} {
 		want := plain(s)
 		for cut := range len(s) + 1 {
-			if got := crc.More(crc.Of(s[:cut]), s[cut:]); got != want {
-				t.Errorf("%.12q cut at %d: %#08x, want %#08x", s, cut, got, want)
-			}
+			goesOn(t, crc.Of(s[:cut]), s[cut:], want)
 		}
 	}
 }
@@ -172,9 +166,7 @@ func TestMoreGoesOnInManyPieces(t *testing.T) {
 func TestMoreOfAnEmptyTextIsTheSum(t *testing.T) {
 	r := rand.New(rand.NewSource(7))
 	for _, sum := range []uint32{0, 1, 0xCBF43926, 1 << 31, 0xFFFFFFFE, 0xFFFFFFFF, r.Uint32()} {
-		if got := crc.More(sum, ""); got != sum {
-			t.Errorf("More(%#08x, empty): %#08x", sum, got)
-		}
+		goesOn(t, sum, "", sum)
 	}
 }
 
@@ -182,10 +174,7 @@ func TestMoreOfAnySum(t *testing.T) {
 	r := rand.New(rand.NewSource(8))
 	for _, sum := range []uint32{0, 1, 0x7FFFFFFF, 1 << 31, 0xFFFFFFFF, r.Uint32(), r.Uint32()} {
 		s := text(r, 100)
-		want := crc32.Update(sum, crc32.IEEETable, []byte(s))
-		if got := crc.More(sum, s); got != want {
-			t.Errorf("More(%#08x): %#08x, want %#08x", sum, got, want)
-		}
+		goesOn(t, sum, s, crc32.Update(sum, crc32.IEEETable, []byte(s)))
 	}
 }
 
