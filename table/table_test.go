@@ -498,19 +498,22 @@ func TestTheLastSeg(t *testing.T) {
 
 func TestSegsThatDoNotRise(t *testing.T) {
 	for _, l := range []api.Limit{least(), greatest()} {
-		for i := range l.Segs {
-			for j := range i {
-				swapped := row(10, l.Segs, 2)
-				swapped[i], swapped[j] = swapped[j], swapped[i]
-				refused(t, lone(2, houseOf(1, 1, l, swapped)))
-				twice := row(10, l.Segs, 2)
-				twice[i] = twice[j]
-				refused(t, lone(2, houseOf(1, 1, l, twice)))
+		// A step of 1: neighbours that are exchanged are but one apart.
+		for step := 1; step <= 2; step++ {
+			for i := range l.Segs {
+				for j := range i {
+					swapped := row(10, l.Segs, step)
+					swapped[i], swapped[j] = swapped[j], swapped[i]
+					refused(t, lone(2, houseOf(1, 1, l, swapped)))
+					twice := row(10, l.Segs, step)
+					twice[i] = twice[j]
+					refused(t, lone(2, houseOf(1, 1, l, twice)))
+				}
 			}
+			falling := row(10, l.Segs, step)
+			slices.Reverse(falling)
+			refused(t, lone(2, houseOf(2, 1, l, falling)))
 		}
-		falling := row(10, l.Segs, 2)
-		slices.Reverse(falling)
-		refused(t, lone(2, houseOf(2, 1, l, falling)))
 		refused(t, lone(2, houseOf(2, 1, l, make([]int, l.Segs))))
 	}
 }
